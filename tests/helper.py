@@ -1,0 +1,72 @@
+"""What the tests share: a usual rule, all that is told, and exact refusals."""
+
+import unittest
+
+from agegrade.house import House
+from agegrade.rules import Rule
+
+USUAL = {"stays": [2, 1, 3], "gap": 4, "opens": 1, "shuts": 2, "least": 5, "most": 8, "names": 7}
+
+
+def rule(**changes):
+    return Rule(**{**USUAL, **changes})
+
+
+def house(posts=(), **changes):
+    return House(rule(**changes), list(posts))
+
+
+def go_on(thing, many=1):
+    """Hold so many feasts, each in its first let year; tell what the last one told."""
+    told = None
+    for _ in range(many):
+        earliest, _latest = thing.window(thing.latest() + 1)
+        thing.wait(earliest - thing.year())
+        told = thing.hold()
+    return told
+
+
+def told_by_rule(a_rule):
+    fields = (a_rule.gap, a_rule.opens, a_rule.shuts, a_rule.least, a_rule.most, a_rule.names)
+    begins = [a_rule.begin(grade) for grade in range(a_rule.grades())]
+    at = [(a_rule.grade_at(stood), a_rule.fathering(stood)) for stood in range(-2, a_rule.span() + 3)]
+    return (fields, a_rule.stays(), a_rule.grades(), a_rule.span(), begins, at)
+
+
+def told_by_clock(clock):
+    """What Feasts and House tell alike."""
+    latest = clock.latest()
+    years = [clock.held(feast) for feast in range(latest + 1)]
+    windows = [clock.window(feast) for feast in range(latest + 1, latest + 4)]
+    return (clock.year(), latest, years, windows)
+
+
+def told_by_feasts(feasts):
+    return told_by_clock(feasts) + ([feasts.by_year(year) for year in range(feasts.year() + 1)],)
+
+
+def told_of_man(a_house, man):
+    return (
+        a_house.set_of(man), a_house.born(man), a_house.father_of(man), a_house.alive(man),
+        a_house.stood(man), a_house.stage(man), a_house.grade_of(man), a_house.name_of(man),
+        a_house.sons_of(man), a_house.post_of(man),
+    )
+
+
+def told_by_house(a_house):
+    men = [told_of_man(a_house, man) for man in range(a_house.many())]
+    holders = [a_house.holder(post) for post in range(len(a_house.posts()))]
+    return (told_by_rule(a_house.rule()), told_by_clock(a_house), a_house.posts(), holders, a_house.many(), men)
+
+
+class Case(unittest.TestCase):
+    def refused(self, error, deed, *things):
+        """The deed is refused with just this error, not with one above or beside it."""
+        with self.assertRaises(error) as caught:
+            deed(*things)
+        self.assertIs(type(caught.exception), error)
+
+    def number(self, told, wanted):
+        """The very whole number is told, and not True or False in its stead."""
+        self.assertIs(type(told), int)
+        self.assertEqual(told, wanted)
