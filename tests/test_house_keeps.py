@@ -8,7 +8,7 @@ from agegrade.errors import (
     Overdue, Posted, TooSoon, Vacant, WrongGrade,
 )
 from agegrade.house import House
-from tests.helper import Case, go_on, house, rule, told_by_house, told_by_rule
+from tests.helper import Case, go_on, house, rule, told_by_house, told_by_rule, told_of_man
 
 # In the busy house below these are the numbers of the men.
 OLD, FATHER, YOUTH, LAD, SON, GONE_BOY, GONE_FATHER = range(7)
@@ -188,6 +188,23 @@ class TwinTest(Case):
                 self.assertEqual(getattr(made, name)(*things), getattr(twin, name)(*things))
         self.assertEqual(go_on(made, 3), go_on(twin, 3))
         self.assertEqual(told_by_house(made), told_by_house(twin))
+
+    def test_twins_that_go_on_by_turns(self):
+        made = at_feast()
+        twin = made.twin()
+        self.assertEqual(twin.admit(0, -3), NOBODY)
+        self.assertEqual(made.bear(FATHER), NOBODY)
+        self.assertEqual(twin.bear(OLD), NOBODY + 1)
+        self.assertEqual(made.admit(1, -7), NOBODY + 1)
+        told = [[told_of_man(one, man)[:4] for man in (NOBODY, NOBODY + 1)] for one in (made, twin)]
+        self.assertEqual(told[0], [(2, 11, FATHER, True), (1, -7, None, True)])
+        self.assertEqual(told[1], [(0, -3, None, True), (0, 11, OLD, True)])
+        made.die(NOBODY)
+        made.wait(1)
+        self.assertEqual((made.alive(NOBODY), twin.alive(NOBODY)), (False, True))
+        self.assertEqual(twin.hold(), [(0, YOUTH), (3, OLD)])
+        self.assertEqual(made.hold(), [(0, YOUTH), (3, OLD)])
+        self.assertEqual((made.held(2), twin.held(2)), (12, 11))
 
     def test_a_twin_is_held_to_the_same(self):
         twin = busy().twin()
