@@ -1,7 +1,9 @@
-"""What the tests share: a usual rule, all that is told, and exact refusals."""
+"""What the tests share: a usual rule, houses, all that is told, and exact refusals."""
 
+import random
 import unittest
 
+from agegrade.errors import AgeError
 from agegrade.house import House
 from agegrade.rules import Rule
 
@@ -57,6 +59,32 @@ def told_by_house(a_house):
     men = [told_of_man(a_house, man) for man in range(a_house.many())]
     holders = [a_house.holder(post) for post in range(len(a_house.posts()))]
     return (told_by_rule(a_house.rule()), told_by_clock(a_house), a_house.posts(), holders, a_house.many(), men)
+
+
+def any_deed(luck, a_house):
+    """A deed by its name and its things, let or not."""
+    men, posts = a_house.many(), len(a_house.posts())
+    man, other = luck.randint(-1, men), luck.randint(-1, men)
+    post = luck.randint(-1, posts)
+    near = a_house.latest() + luck.randint(-8, 6)
+    return luck.choice((
+        ("wait", luck.randint(-1, 6)), ("hold",), ("admit", near, a_house.year() - luck.randint(-1, 201)),
+        ("admit", near, a_house.year()), ("bear", man), ("bear", other), ("adopt", man, other), ("die", man),
+        ("appoint", post, man), ("appoint", post, other), ("resign", post),
+    ))
+
+
+def grown(seed, posts=(), deeds=250, **changes):
+    """A house behind a long run of deeds."""
+    luck = random.Random(seed)
+    made = house(posts, **changes)
+    for _ in range(deeds):
+        name, *things = any_deed(luck, made)
+        try:
+            getattr(made, name)(*things)
+        except AgeError:
+            pass
+    return made
 
 
 class Case(unittest.TestCase):

@@ -8,7 +8,7 @@ from agegrade.errors import (
     Overdue, Posted, TooSoon, Vacant, WrongGrade,
 )
 from agegrade.house import House
-from tests.helper import Case, go_on, house, rule, told_by_house, told_by_rule, told_of_man
+from tests.helper import Case, any_deed, go_on, house, rule, told_by_house, told_by_rule, told_of_man
 
 # In the busy house below these are the numbers of the men.
 OLD, FATHER, YOUTH, LAD, SON, GONE_BOY, GONE_FATHER = range(7)
@@ -226,17 +226,6 @@ class TwinTest(Case):
 class WalkTest(Case):
     """Long runs of deeds, let and refused, through which all that is told hangs together."""
 
-    def deed(self, luck, made):
-        men, posts = made.many(), len(made.posts())
-        man, other = luck.randint(-1, men), luck.randint(-1, men)
-        post = luck.randint(-1, posts)
-        near = made.latest() + luck.randint(-8, 6)
-        return luck.choice((
-            ("wait", luck.randint(-1, 6)), ("hold",), ("admit", near, made.year() - luck.randint(-1, 201)),
-            ("admit", near, made.year()), ("bear", man), ("bear", other), ("adopt", man, other), ("die", man),
-            ("appoint", post, man), ("appoint", post, other), ("resign", post),
-        ))
-
     def check(self, made):
         law = made.rule()
         for man in range(made.many()):
@@ -266,7 +255,7 @@ class WalkTest(Case):
             luck = random.Random(seed)
             made = house([0, 1, 2, 2], gap=luck.randint(1, 5), opens=luck.randint(0, 1), names=luck.randint(1, 9))
             for _ in range(150):
-                name, *things = self.deed(luck, made)
+                name, *things = any_deed(luck, made)
                 ahead = told_by_house(made)
                 try:
                     getattr(made, name)(*things)
