@@ -27,6 +27,7 @@ def narrowed(wishes, feast, low, high):
 def edges_of(rule, since, wishes):
     """The edges of each feast's years by what comes ahead of it, up to a feast for which no year is left."""
     told = []
+    # With least years more this is the next feast's: the greater one of since and least.
     low = (max(since - rule.least, 0), None)
     high = (0, None)
     for feast in range(1, max([wish[0] for wish in wishes], default=0) + 1):
