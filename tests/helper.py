@@ -1,10 +1,12 @@
 """What the tests share: a usual rule, houses, all that is told, and exact refusals."""
 
+import itertools
 import random
 import unittest
 
 from agegrade.errors import AgeError
 from agegrade.house import House
+from agegrade.muster import fill
 from agegrade.rules import Rule
 
 USUAL = {"stays": [2, 1, 3], "gap": 4, "opens": 1, "shuts": 2, "least": 5, "most": 8, "names": 7}
@@ -74,6 +76,17 @@ def any_deed(luck, a_house):
     ))
 
 
+def any_book_deed(luck, a_house):
+    """A deed of a book, let or not."""
+    return ("fill",) if luck.random() < 0.1 else any_deed(luck, a_house)
+
+
+def redone(a_house, deed):
+    """Do a deed of a book in a house itself; tell what it gives."""
+    name, *things = deed
+    return fill(a_house) if name == "fill" else getattr(a_house, name)(*things)
+
+
 def grown(seed, posts=(), deeds=250, **changes):
     """A house behind a long run of deeds."""
     luck = random.Random(seed)
@@ -85,6 +98,45 @@ def grown(seed, posts=(), deeds=250, **changes):
         except AgeError:
             pass
     return made
+
+
+def all_calendars(law, since, many):
+    """Every calendar of so many feasts that is let by, found by trying."""
+    told = []
+    for steps in itertools.product(range(law.least, law.most + 1), repeat=many):
+        years = list(itertools.accumulate(steps))
+        if not years or years[0] >= since:
+            told.append(years)
+    return told
+
+
+def any_rule(luck, most=4):
+    stays = [luck.randint(1, 3) for _ in range(luck.randint(1, 3))]
+    opens = luck.randrange(len(stays))
+    least = luck.randint(1, most)
+    return rule(
+        stays=stays, opens=opens, shuts=luck.randrange(opens, len(stays)), gap=luck.randint(1, 7),
+        least=least, most=luck.randint(least, most),
+    )
+
+
+def any_terms(luck, law):
+    """A beat, young and old."""
+    young = luck.randint(1, 12)
+    return (luck.randint(law.least, law.most), young, young + luck.choice((0, 0, 1, 3, 10)))
+
+
+def sons_ages(law, beat, young, old, entry_age):
+    """The entry ages of sons of a man of this entry age, found by trying each age and feast at an even beat."""
+    told = set()
+    for age in range(young, old + 1):
+        # Counted from the year in which the father's set opens.
+        year = age - entry_age
+        for stood in range(law.span()):
+            first, behind = stood * beat, (stood + 1) * beat
+            if first <= year < behind and law.fathering(stood):
+                told.add(law.gap * beat - year)
+    return told
 
 
 class Case(unittest.TestCase):

@@ -99,6 +99,24 @@ class LanguageTest(unittest.TestCase):
             for name in done:
                 del drawn[name]
 
+    def test_no_local_is_called_like_a_class_or_an_import(self):
+        for path in files():
+            tree = ast.parse(path.read_text())
+            taken = {part.name for part in tree.body if isinstance(part, ast.ClassDef)}
+            taken |= {alias.name for part in tree.body if isinstance(part, ast.ImportFrom) for alias in part.names}
+            for node in ast.walk(tree):
+                if isinstance(node, (ast.arg, ast.Name)):
+                    self.assertNotIn(bound_name(node), taken, path.name)
+
+    def test_tops_keep_plain_values(self):
+        for path in files():
+            for part in ast.parse(path.read_text()).body:
+                if isinstance(part, ast.Assign):
+                    inner = [node for node in ast.walk(part.value) if isinstance(node, (ast.List, ast.Dict))]
+                    self.assertLessEqual(len(inner), 1, path.name)
+                elif not isinstance(part, ast.Expr):
+                    self.assertIsInstance(part, (ast.ImportFrom, ast.FunctionDef, ast.ClassDef), path.name)
+
     def test_no_name_is_both_a_method_and_a_value(self):
         methods, values = set(), set()
         for _name, node in nodes():

@@ -7,17 +7,7 @@ import unittest
 from agegrade.errors import BadWish, BadYears, Overdue, TooSoon
 from agegrade.feasts import Feasts
 from agegrade.plans import planned
-from tests.helper import Case, rule, told_by_rule
-
-
-def all_calendars(law, since, many):
-    """Every calendar of so many feasts that is let by, found by trying."""
-    told = []
-    for steps in itertools.product(range(law.least, law.most + 1), repeat=many):
-        years = list(itertools.accumulate(steps))
-        if not years or years[0] >= since:
-            told.append(years)
-    return told
+from tests.helper import Case, all_calendars, rule, told_by_rule
 
 
 def meets(years, wishes):
